@@ -1,0 +1,1 @@
+"""A multihead weigher: selection of hoppers for filling bags."""
