@@ -1,10 +1,14 @@
-"""The limits of the arguments and of the queue."""
+"""The limits of the arguments, of the queue and of the reachable weights."""
 
 MOST_HOPPERS = 8
 MOST_TARGET = 999
 MOST_AGE = 9
 MOST_WEIGHT = 300
+MOST_BAGS = 12
 MOST_QUEUED = 24
+
+# A weight is told as reachable up to so far above the target.
+MOST_EXCESS_TOLD = 19
 
 
 def hopper_count_is_right(hopper_count):
@@ -25,3 +29,7 @@ def weight_is_right(weight):
 
 def weights_are_right(weights):
     return len(weights) > 0 and all([weight_is_right(weight) for weight in weights])
+
+
+def bags_are_right(bags):
+    return 1 <= bags <= MOST_BAGS

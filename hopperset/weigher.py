@@ -4,10 +4,11 @@ Each call has a function of its own. It is handed the call's numbers and gives
 back the list of what is answered: a refusal is a list of its code alone.
 """
 
-from hopperset.codes import NO_WEIGHER, OUTSIDE_LIMITS, QUEUE_FULL
+from hopperset.codes import HOPPER_EMPTY, NO_FILLING_SET, NO_HOPPER, NO_WEIGHER, OUTSIDE_LIMITS, QUEUE_FULL
 from hopperset.limits import MOST_QUEUED
-from hopperset.limits import hopper_count_is_right, max_age_is_right, target_is_right
+from hopperset.limits import bags_are_right, hopper_count_is_right, max_age_is_right, target_is_right
 from hopperset.limits import weight_is_right, weights_are_right
+from hopperset.selection import best_mask, filling_masks, greedy_mask, reachable, size_of
 from hopperset.state import Weigher
 
 
@@ -96,11 +97,95 @@ def can_fill(weigher, numbers):
     mask = numbers[0]
     if mask >= weigher.set_limit():
         return [OUTSIDE_LIMITS]
-    return [1 if weigher.fills(mask) else 0]
+    return [1 if mask in filling_masks(weigher, weigher.target) else 0]
 
 
 def filling_set_count(weigher, numbers):
-    return [len([mask for mask in range(weigher.set_limit()) if weigher.fills(mask)])]
+    return [len(filling_masks(weigher, weigher.target))]
+
+
+def told_of_set(weigher, mask, target):
+    """Tell of a selected set, or refuse if there is none."""
+    if mask is None:
+        return [NO_FILLING_SET]
+    return [mask, weigher.weight_in(mask) - target, size_of(mask)]
+
+
+def best_set(weigher, numbers):
+    return told_of_set(weigher, best_mask(weigher, weigher.target), weigher.target)
+
+
+def greedy_set(weigher, numbers):
+    return told_of_set(weigher, greedy_mask(weigher), weigher.target)
+
+
+def fill_bag(weigher, numbers):
+    mask = numbers[0]
+    if mask >= weigher.set_limit():
+        return [OUTSIDE_LIMITS]
+    if mask not in filling_masks(weigher, weigher.target):
+        return [NO_FILLING_SET]
+    excess = weigher.weight_in(mask) - weigher.target
+    weigher.fill_from(mask)
+    return [excess]
+
+
+def fill_best_bag(weigher, numbers):
+    mask = best_mask(weigher, weigher.target)
+    # Told ahead of the filling, which changes what the set weighs.
+    told = told_of_set(weigher, mask, weigher.target)
+    if mask is not None:
+        weigher.fill_from(mask)
+    return told
+
+
+def run(weigher, numbers):
+    bags = numbers[0]
+    if not bags_are_right(bags):
+        return [OUTSIDE_LIMITS]
+    bag_count = 0
+    total_excess = 0
+    while bag_count < bags:
+        mask = best_mask(weigher, weigher.target)
+        if mask is None:
+            break
+        total_excess += weigher.weight_in(mask) - weigher.target
+        weigher.fill_from(mask)
+        bag_count += 1
+    return [bag_count, total_excess]
+
+
+def best_set_for_target(weigher, numbers):
+    target = numbers[0]
+    if not target_is_right(target):
+        return [OUTSIDE_LIMITS]
+    return told_of_set(weigher, best_mask(weigher, target), target)
+
+
+def preview_run(weigher, numbers):
+    return run(weigher.duplicate(), numbers)
+
+
+def reachable_weights(weigher, numbers):
+    weights = reachable(weigher)
+    return [len(weights)] + weights
+
+
+def totals(weigher, numbers):
+    in_hoppers = sum([hopper.weight for hopper in weigher.hoppers])
+    return [weigher.bag_count, weigher.received, weigher.packed, in_hoppers, sum(weigher.queue)]
+
+
+def discard(weigher, numbers):
+    number = numbers[0]
+    if number >= len(weigher.hoppers):
+        return [NO_HOPPER]
+    hopper = weigher.hoppers[number]
+    if hopper.is_empty():
+        return [HOPPER_EMPTY]
+    weight = hopper.weight
+    weigher.throw_out(hopper)
+    return [weight]
 
 
 CREATE = 0
@@ -117,6 +202,16 @@ OPERATIONS = {
     8: weight_of,
     9: can_fill,
     10: filling_set_count,
+    11: best_set,
+    12: greedy_set,
+    13: fill_bag,
+    14: fill_best_bag,
+    15: run,
+    16: best_set_for_target,
+    17: preview_run,
+    18: reachable_weights,
+    19: totals,
+    20: discard,
 }
 
 

@@ -14,11 +14,24 @@ CALL_NUMBERS = {
     "weight_of": 8,
     "can_fill": 9,
     "filling_set_count": 10,
+    "best_set": 11,
+    "greedy_set": 12,
+    "fill_bag": 13,
+    "fill_best_bag": 14,
+    "run": 15,
+    "best_set_for_target": 16,
+    "preview_run": 17,
+    "reachable_weights": 18,
+    "totals": 19,
+    "discard": 20,
 }
 
 NO_WEIGHER = [-11]
+NO_HOPPER = [-2]
 OUTSIDE = [-22]
 FULL = [-28]
+NONE_FILLS = [-33]
+EMPTY = [-6]
 
 GREATEST = 4294967295
 
@@ -69,6 +82,7 @@ STATE_CALLS = (
     ("get_queue",),
     ("due_hoppers",),
     ("filling_set_count",),
+    ("totals",),
     ("set_target", 1),
     ("set_max_age", 0),
 )
@@ -79,7 +93,40 @@ def state_after(*calls):
     return ask(*calls, *STATE_CALLS)[len(calls):]
 
 
+def assert_unchanged(test, before, asked):
+    """Check that a call leaves the state as it was."""
+    test.assertEqual(state_after(*before, asked), state_after(*before))
+
+
 def assert_refused(test, before, refused, code):
     """Check that a call is refused with this code and leaves the state as it was."""
     test.assertEqual(ask_last(*before, refused), code)
-    test.assertEqual(state_after(*before, refused), state_after(*before))
+    assert_unchanged(test, before, refused)
+
+
+def mask_of(numbers):
+    return sum(2 ** number for number in numbers)
+
+
+def laid_out(target, max_age, portions, queue=()):
+    """The calls that lead to these hoppers, each a weight and an age, and to this queue.
+
+    A hopper of weight 0 is left empty. One hopper at least must be empty or of age 0, as each
+    bag empties or refills one. Until its turn comes, a hopper holds a portion of weight 1.
+    """
+    count = len(portions)
+    weights = [1] * count
+    calls = [("create", count, 1, 0), ("add_portions", *weights)]
+    for age in range(max(age for weight, age in portions), -1, -1):
+        turn = [number for number in range(count) if portions[number][0] > 0 and portions[number][1] == age]
+        for number in turn:
+            weights[number] = portions[number][0]
+        # A bag is to be filled for each step of age, so a later hopper stands in where none has its turn.
+        later = [n for n in range(count) if portions[n][0] == 0 or portions[n][1] < age]
+        emptied = turn or later[:1]
+        calls.append(("fill_bag", mask_of(emptied)))
+        calls.append(("add_portions", *[weights[number] for number in emptied]))
+    if queue:
+        calls.append(("add_portions", *queue))
+    calls.extend(("discard", number) for number in range(count) if portions[number][0] == 0)
+    return (*calls, ("set_target", target), ("set_max_age", max_age))

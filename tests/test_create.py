@@ -1,6 +1,6 @@
 import unittest
 
-from asking import GREATEST, NO_WEIGHER, OUTSIDE, ask, ask_last, assert_refused, state_after
+from asking import GREATEST, NO_WEIGHER, OUTSIDE, ask, ask_last, assert_refused, laid_out, state_after
 
 WRONG = (
     (0, 100, 0),
@@ -24,7 +24,7 @@ class Create(unittest.TestCase):
     def test_a_new_weigher_is_empty(self):
         self.assertEqual(
             state_after(("create", 3, 100, 4)),
-            [[3, 0, 0, 0, 0, 0, 0], [0], [0], [0], [100], [4]],
+            [[3, 0, 0, 0, 0, 0, 0], [0], [0], [0], [0, 0, 0, 0, 0], [100], [4]],
         )
 
     def test_each_hopper_count_within_the_limits(self):
@@ -67,6 +67,14 @@ class Create(unittest.TestCase):
         again = ("create", 4, 200, 7)
         self.assertEqual(ask_last(*before, again), [0])
         self.assertEqual(state_after(*before, again), state_after(again))
+
+    def test_it_replaces_a_weigher_that_has_filled_bags(self):
+        before = (*laid_out(70, 3, ((40, 2), (0, 0), (50, 1)), queue=(60, 70)), ("fill_best_bag",))
+        again = ("create", 4, 200, 7)
+        self.assertEqual(state_after(*before, again), state_after(again))
+        for numbers in WRONG:
+            with self.subTest(numbers=numbers):
+                assert_refused(self, before, ("create", *numbers), OUTSIDE)
 
     def test_the_same_create_again_empties_too(self):
         told = ask(

@@ -31,7 +31,7 @@ class SetTarget(unittest.TestCase):
         state = state_after(*BEFORE)
         self.assertEqual(state_after(*BEFORE, ("set_target", 99), ("set_target", 100)), state)
         changed = state_after(*BEFORE, ("set_target", 300))
-        self.assertEqual(changed, state[:3] + [[0], [300]] + state[5:])
+        self.assertEqual(changed, state[:3] + [[0], state[4], [300], state[6]])
 
 
 class SetMaxAge(unittest.TestCase):
@@ -52,4 +52,4 @@ class SetMaxAge(unittest.TestCase):
     def test_nothing_else_changes(self):
         state = state_after(*BEFORE)
         changed = state_after(*BEFORE, ("set_max_age", 1))
-        self.assertEqual(changed, state[:5] + [[1]])
+        self.assertEqual(changed, state[:6] + [[1]])

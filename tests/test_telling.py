@@ -1,6 +1,6 @@
 import unittest
 
-from asking import STATE_CALLS, ask, ask_last
+from asking import STATE_CALLS, ask, ask_last, laid_out
 
 
 class GetHoppers(unittest.TestCase):
@@ -52,7 +52,14 @@ class DueHoppers(unittest.TestCase):
 class Telling(unittest.TestCase):
 
     def test_it_changes_nothing(self):
-        before = (("create", 3, 100, 4), ("add_portions", 60, 45, 50, 70))
-        asked = STATE_CALLS[:4] + (("weight_of", 5), ("can_fill", 5))
-        told = ask(*before, *asked, *asked, *asked)[2:]
-        self.assertEqual(told, told[:6] * 3)
+        asked = STATE_CALLS[:5] + (
+            ("weight_of", 5), ("can_fill", 5), ("best_set",), ("greedy_set",), ("best_set_for_target", 70),
+            ("preview_run", 2), ("reachable_weights",),
+        )
+        for before in (
+            (("create", 3, 100, 4), ("add_portions", 60, 45, 50, 70)),
+            laid_out(100, 2, ((60, 1), (0, 0), (45, 2)), queue=(50, 70)),
+            laid_out(200, 2, ((60, 1), (0, 0), (45, 2))),
+        ):
+            told = ask(*before, *asked, *asked, *asked)[len(before):]
+            self.assertEqual(told, told[:len(asked)] * 3)
